@@ -2,7 +2,7 @@ package heap
 
 import "kurgan/cell"
 
-// mostTries bounds how often a Steal begins again, which takes three Steps: otherwise the owner's acts could keep it from its end for ever.
+// mostTries bounds how often a Steal tries, in three Steps each: otherwise the owner's acts could keep it from its end for ever.
 const mostTries = 33
 
 // steal removes the first slot of a place. It asks the memory alone, not what the owner knows.
