@@ -35,10 +35,8 @@ func told(t *testing.T, r *hist.Recorder, want ...hist.Op) {
 func TestRecorder(t *testing.T) {
 	var r hist.Recorder
 	told(t, &r)
-	end(t, &r, 0, 5, api.ErrMiss)
 	begin(t, &r, hist.Put, 7, 0) // at 0
 	told(t, &r)
-	end(t, &r, 1, 5, api.ErrMiss)
 	begin(t, &r, hist.Take, 0, 1) // at 1
 	begin(t, &r, hist.Take, 9, 2) // at 2
 	told(t, &r)
@@ -56,23 +54,72 @@ func TestRecorder(t *testing.T) {
 	}
 }
 
-// A call that returns an error has changed nothing: neither an operation nor the time.
-func TestWrongEnds(t *testing.T) {
+// A wrong End between the beginnings of two others.
+func TestWrongEndAmidOthers(t *testing.T) {
 	var r hist.Recorder
-	begin(t, &r, hist.Put, 7, 0)
-	begin(t, &r, hist.Put, 8, 1)
-	end(t, &r, 1, 8, api.OK)
-	for _, n := range []int{math.MinInt, -2, -1, 1, 2, 3, math.MaxInt} {
-		end(t, &r, n, 5, api.ErrMiss)
-		told(t, &r, put(8, 1, 2))
-	}
+	begin(t, &r, hist.Put, 5, 0) // at 0
+	end(t, &r, 7, 5, api.ErrMiss)
+	begin(t, &r, hist.Take, 5, 1) // at 2
+	end(t, &r, 0, 5, api.OK)
+	end(t, &r, 1, 5, api.OK)
+	told(t, &r, put(5, 0, 3), take(5, 2, 4))
+}
+
+// Ahead of the first Begin an End's call counts as well.
+func TestEndsAheadOfAll(t *testing.T) {
+	var r hist.Recorder
+	end(t, &r, 0, 5, api.ErrMiss)
+	end(t, &r, -1, 5, api.ErrMiss)
+	told(t, &r)
+	begin(t, &r, hist.Put, 7, 0) // at 2
 	end(t, &r, 0, 7, api.OK)
-	end(t, &r, 0, 6, api.ErrMiss)
-	end(t, &r, 1, 6, api.ErrMiss)
-	told(t, &r, put(7, 0, 3), put(8, 1, 2))
-	begin(t, &r, hist.Take, 0, 2)
-	end(t, &r, 2, 7, api.OK)
-	told(t, &r, put(7, 0, 3), put(8, 1, 2), take(7, 4, 5))
+	told(t, &r, put(7, 2, 3))
+}
+
+// An End that returns an error changes no operation, but it counts time: of a negative number, of one that is too great, and of an operation that has ended; ahead of a Begin and ahead of an End.
+func TestWrongEnds(t *testing.T) {
+	for _, n := range []int{math.MinInt, -2, -1, 2, 3, 100, math.MaxInt, 1} {
+		for _, times := range []int{1, 2, 5} {
+			var r hist.Recorder
+			wrong := func() {
+				before := r.Ops()
+				for range times {
+					end(t, &r, n, 6, api.ErrMiss)
+					told(t, &r, before...)
+				}
+			}
+			begin(t, &r, hist.Put, 7, 0) // at 0
+			begin(t, &r, hist.Put, 8, 1) // at 1
+			end(t, &r, 1, 8, api.OK)     // at 2
+			told(t, &r, put(8, 1, 2))
+			wrong() // from 3 on
+			end(t, &r, 0, 7, api.OK)
+			told(t, &r, put(7, 0, 3+times), put(8, 1, 2))
+
+			if n == 2 { // which is there from now on
+				continue
+			}
+			wrong()
+			begin(t, &r, hist.Take, 0, 2)
+			end(t, &r, 2, 7, api.OK)
+			told(t, &r, put(7, 0, 3+times), put(8, 1, 2), take(7, 4+2*times, 5+2*times))
+		}
+	}
+}
+
+// The number behind the last one is no operation's till a Begin returns it.
+func TestEndOfTheNextNumber(t *testing.T) {
+	var r hist.Recorder
+	begin(t, &r, hist.Put, 7, 0)  // at 0
+	end(t, &r, 1, 8, api.ErrMiss) // at 1
+	begin(t, &r, hist.Put, 8, 1)  // at 2
+	end(t, &r, 1, 8, api.OK)      // at 3
+	end(t, &r, 1, 9, api.ErrMiss) // at 4
+	end(t, &r, 0, 7, api.OK)      // at 5
+	end(t, &r, 0, 9, api.ErrMiss) // at 6
+	begin(t, &r, hist.Take, 7, 2) // at 7
+	end(t, &r, 2, 7, api.OK)      // at 8
+	told(t, &r, put(7, 0, 5), put(8, 2, 3), take(7, 7, 8))
 }
 
 // What is recorded is what is handed in; it is End's item that is told.
@@ -151,6 +198,7 @@ func TestManyRecords(t *testing.T) {
 				time++
 			default:
 				end(t, &r, n, 5, api.ErrMiss)
+				time++
 			}
 			var want []hist.Op
 			for k, op := range all {
